@@ -1,0 +1,1 @@
+"""Silentbeats: voices on a clock, read at the divisors of its size."""
