@@ -28,3 +28,9 @@ def whole_multiple(entries):
 def parted(voice, bottom):
     """The quotients of all weights by an integer other than 0."""
     return tuple([lowest(weight, bottom) for weight in voice])
+
+
+def measure_of(entries, voice):
+    """The sum of the products of both, beat by beat, as a quotient."""
+    weights, bottom = whole_multiple(entries)
+    return lowest(sum([a * b for a, b in zip(weights, voice)]), bottom)

@@ -19,11 +19,22 @@ def cleared(rows, k, before):
     ]
 
 
-def solved(square, goals):
-    """The only quotients that make each goal when they are multiplied by the weights of its row, a list, and added."""
-    rows = [row + [goal] for row, goal in zip(square, goals)]
+def eliminated(rows):
+    """The rows with one number, the last pivot, at the index of each and 0 beside it; and that number, 1 of none."""
     before = 1
     for k in range(len(rows)):
         rows = cleared(with_pivot(rows, k), k, before)
         before = rows[k][k]
-    return parted([row[-1] for row in rows], before)
+    return (rows, before)
+
+
+def solved(square, goals):
+    """The only quotients that make each goal when they are multiplied by the weights of its row, a list, and added."""
+    rows, pivot = eliminated([row + [goal] for row, goal in zip(square, goals)])
+    return parted([row[-1] for row in rows], pivot)
+
+
+def determinant_size(square):
+    """The absolute value of the determinant, which is not 0, of these rows."""
+    # The pivots come without fractions, so that the last of them is the determinant but for its sign.
+    return abs(eliminated(square)[1])

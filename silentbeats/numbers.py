@@ -2,7 +2,7 @@
 
 from silentbeats.checks import need
 from silentbeats.kinds import is_size
-from silentbeats.primes import MOST_FACTORED, prime_parts
+from silentbeats.primes import MOST_FACTORED, prime_parts, primes_in
 
 
 def need_number(number):
@@ -13,7 +13,7 @@ def need_number(number):
 def primes_of(number):
     """The set of the primes that divide the number."""
     need_number(number)
-    return tuple([prime for prime, _ in prime_parts(number)])
+    return primes_in(number)
 
 
 def divisors_of(number):

@@ -27,6 +27,11 @@ def prime_parts(number):
     return tuple(parts)
 
 
+def primes_in(number):
+    """The set of the primes that divide the number."""
+    return tuple([prime for prime, _ in prime_parts(number)])
+
+
 def moebius(number):
     """0 if a square above 1 divides the number, otherwise -1 or 1 as its primes are odd or even in number."""
     sign = 1

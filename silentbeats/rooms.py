@@ -29,12 +29,18 @@ def entries_for(one, other):
     bar = bar_of(one, other)
     if bar is not None:
         raise Unmade(bar)
-    size = len(one)
+    square = square_of(one)
+    rank = len(square)
+    return solved(square, other[:rank]) + ((0, 1),) * (len(one) - rank)
+
+
+def square_of(one):
+    """Rows of the weights that entries at the first beats are multiplied by to make those at the first beats."""
     # What one makes is silent where it is, so that its first weights, as many as the rank, fix it;
     # and entries at as many first beats make all of it, in one way.
+    size = len(one)
     rank = silent_rank(size, silences_of(one))
-    square = [[one[(k - j) % size] for j in range(rank)] for k in range(rank)]
-    return solved(square, other[:rank]) + ((0, 1),) * (size - rank)
+    return [[one[(k - j) % size] for j in range(rank)] for k in range(rank)]
 
 
 def heard(one, entries):

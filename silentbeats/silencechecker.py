@@ -4,12 +4,8 @@ from silentbeats.checks import need
 from silentbeats.errors import InvalidPaper
 from silentbeats.kinds import are_integers, is_divisor, is_integer, is_polynomial, is_voice_of
 from silentbeats.numbers import divisors_of, totient_of
+from silentbeats.papers import begins, ends_in_tuple, judge
 from silentbeats.polynomials import cyclotomic, plus, polynomial_of, times, trimmed
-
-
-def begins(thing, word, many):
-    """Whether it is a tuple of so many that begins with the word."""
-    return isinstance(thing, tuple) and len(thing) == many and thing[0] == word
 
 
 def is_rest(divisor, thing):
@@ -40,36 +36,30 @@ def lets_silence(voice, divisor, thing):
     """True for the right paper with "silent", False for that with "sounds"; otherwise InvalidPaper."""
     need(is_divisor(len(voice), divisor), "divisor")
     fault = silence_fault(voice, divisor, thing)
-    if fault is not None:
-        raise InvalidPaper(fault, -1)
+    judge(fault is None, fault, -1)
     return thing[0] == "silent"
 
 
 def check_even(one, other, rows):
     """Judges the rows of a paper with "even"."""
     divisors = divisors_of(len(one))[1:]
-    if len(rows) != len(divisors):
-        raise InvalidPaper("many", -1)
+    judge(len(rows) == len(divisors), "many", -1)
     for k, row in enumerate(rows):
-        if not (isinstance(row, tuple) and len(row) == 2 and is_integer(row[0]) and 0 <= row[0] <= 1):
-            raise InvalidPaper("row", k)
-        if not tells((one, other)[row[0]], divisors[k], row[1], "silent"):
-            raise InvalidPaper("paper", k)
+        judge(isinstance(row, tuple) and len(row) == 2 and is_integer(row[0]) and 0 <= row[0] <= 1, "row", k)
+        judge(tells((one, other)[row[0]], divisors[k], row[1], "silent"), "paper", k)
 
 
 def check_bar(one, other, divisor, papers):
     """Judges the divisor and the two papers of a paper with "bar"."""
-    if not is_divisor(len(one), divisor) or divisor == 1:
-        raise InvalidPaper("divisor", -1)
+    judge(is_divisor(len(one), divisor) and divisor != 1, "divisor", -1)
     for k, voice in enumerate((one, other)):
-        if not tells(voice, divisor, papers[k], "sounds"):
-            raise InvalidPaper("paper", k)
+        judge(tells(voice, divisor, papers[k], "sounds"), "paper", k)
 
 
 def lets_even(one, other, thing):
     """True for a paper with "even", False for one with "bar"; otherwise InvalidPaper."""
     need(is_voice_of(len(one), other), "other")
-    if begins(thing, "even", 2) and isinstance(thing[1], tuple):
+    if ends_in_tuple(thing, "even", 2):
         check_even(one, other, thing[1])
         return True
     if begins(thing, "bar", 4):

@@ -33,8 +33,8 @@ BARRED_WORDS = (
 NODES = (
     ast.Module, ast.Expr, ast.ImportFrom, ast.alias, ast.FunctionDef, ast.arguments, ast.arg, ast.ClassDef, ast.Assign,
     ast.AugAssign, ast.Return, ast.If, ast.For, ast.While, ast.Raise, ast.Pass, ast.Break, ast.Continue, ast.Name,
-    ast.Constant, ast.Tuple, ast.List, ast.Dict, ast.ListComp, ast.DictComp, ast.comprehension, ast.Call, ast.keyword,
-    ast.Attribute, ast.Subscript, ast.Slice, ast.BinOp, ast.UnaryOp, ast.BoolOp, ast.Compare, ast.IfExp, ast.JoinedStr,
+    ast.Constant, ast.Tuple, ast.List, ast.Dict, ast.ListComp, ast.SetComp, ast.DictComp, ast.comprehension, ast.Call,
+    ast.keyword, ast.Attribute, ast.Subscript, ast.Slice, ast.BinOp, ast.UnaryOp, ast.BoolOp, ast.Compare, ast.IfExp, ast.JoinedStr,
     ast.FormattedValue, ast.Starred, ast.expr_context, ast.operator, ast.unaryop, ast.boolop, ast.cmpop,
 )
 BARRED_NODES = (ast.Div, ast.Pow, ast.MatMult)
@@ -187,6 +187,12 @@ class Language(unittest.TestCase):
             for sign, right in zip(node.ops, node.comparators):
                 if isinstance(sign, (ast.Is, ast.IsNot)):
                     self.assertTrue(isinstance(right, ast.Constant) and right.value is None, where)
+
+    def test_sets_are_sorted_on_the_spot(self):
+        in_place = [node.args[0] for _, node in self.each(ast.Call)
+                    if isinstance(node.func, ast.Name) and node.func.id == "sorted" and len(node.args) == 1]
+        for where, node in self.each(ast.SetComp):
+            self.assertIn(node, in_place, where)
 
     def test_kept_ranges_and_the_like(self):
         for where, node in self.each(ast.Assign):
