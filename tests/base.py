@@ -2,8 +2,11 @@
 
 import random
 import unittest
+from fractions import Fraction
 
 from silentbeats.errors import InvalidPaper, InvalidText, NotUsable
+from silentbeats.silences import silent_voice
+from tests import reckon
 
 PAIR = (1, 0, 0, 1, 0, 0)
 THIRDS = (1, 0, 1, 0, 1, 0)
@@ -16,6 +19,11 @@ NO_NUMBERS = NO_INTEGERS + (-1, -(10 ** 59))
 NO_SIZES = NO_NUMBERS + (0,)
 NO_VOICES = (
     True, False, None, 0, 1, "", "1", (), [], [1], [1, 0], (True,), (1, False), (0, None), ("1",), ((1,),), ([1],), (1, ()),
+)
+
+NO_ENTRIES_OF_TWO = (
+    True, None, 0, 1, "", "12", (), (1,), (1, 2, 3), [1, 2], (1, True), (False, 1), (1, None), (1, "2"), (1, (2, 4)),
+    (1, (1, 0)), (1, (1, -2)), (1, (True, 2)), (1, [1, 2]), (1, (1, 2, 3)), (1, (1,)), (1, ()), ((1, 2),),
 )
 
 
@@ -70,6 +78,18 @@ class BeatTest(unittest.TestCase):
 def some_voice(chance, size, low=-3, high=3):
     """A voice of this size with weights drawn by chance."""
     return tuple(chance.randint(low, high) for _ in range(size))
+
+
+def some_room(chance, size):
+    """A voice that is silent at some divisors, drawn by chance."""
+    divisors = tuple(d for d in reckon.divisors(size) if chance.random() < 0.4)
+    return reckon.around(silent_voice(size, divisors), some_voice(chance, size))
+
+
+def some_entries(chance, size):
+    """Entries, integers and quotients mixed, drawn by chance."""
+    drawn = [(chance.randint(-9, 9), chance.choice((0, 1, 2, 3, 8))) for _ in range(size)]
+    return tuple(top if bottom == 0 else reckon.pairs([Fraction(top, bottom)])[0] for top, bottom in drawn)
 
 
 def a_chance(seed):

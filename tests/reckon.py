@@ -1,6 +1,7 @@
 """Plain reckoning beside the program: products, divisions and wheels in the most direct way."""
 
 from fractions import Fraction
+from functools import lru_cache
 
 
 def divisors(number):
@@ -43,12 +44,13 @@ def division(one, by):
     return cut(factor), rest
 
 
+@lru_cache(maxsize=None)
 def wheel(number):
     """C_number, by division of x ** number - 1 by all lesser ones."""
     left = [-1] + [0] * (number - 1) + [1]
     for d in divisors(number)[:-1]:
         left = division(left, wheel(d))[0]
-    return [int(weight) for weight in left]
+    return tuple(int(weight) for weight in left)
 
 
 def rest(voice, divisor):
@@ -74,3 +76,75 @@ def fractions(quotients):
 def pairs(numbers):
     """The Fractions as quotients."""
     return tuple((Fraction(number).numerator, Fraction(number).denominator) for number in numbers)
+
+
+def later(voice, k):
+    """The voice turned by k."""
+    size = len(voice)
+    return tuple(voice[(beat - k) % size] for beat in range(size))
+
+
+def determinant(rows):
+    """The determinant of a square, with Fractions, row by row."""
+    rows = [[Fraction(weight) for weight in row] for row in rows]
+    value = Fraction(1)
+    for k in range(len(rows)):
+        at = next((j for j in range(k, len(rows)) if rows[j][k] != 0), None)
+        if at is None:
+            return Fraction(0)
+        if at != k:
+            rows[k], rows[at] = rows[at], rows[k]
+            value = -value
+        value *= rows[k][k]
+        for j in range(k + 1, len(rows)):
+            share = rows[j][k] / rows[k][k]
+            rows[j] = [a - share * b for a, b in zip(rows[j], rows[k])]
+    return value
+
+
+def multiplied(one, other):
+    """The product of two polynomials, lists from the constant on."""
+    if not one or not other:
+        return []
+    weights = [0] * (len(one) + len(other) - 1)
+    for j, a in enumerate(one):
+        for k, b in enumerate(other):
+            weights[j + k] += a * b
+    return cut(weights)
+
+
+def product_at_roots(many, by):
+    """The product of the values of a polynomial at all roots of one whose last integer is 1."""
+    degree = len(by) - 1
+    rows = []
+    for k in range(degree):
+        left = division([0] * k + list(many), by)[1]
+        rows.append(left + [0] * (degree - len(left)))
+    return determinant(rows)
+
+
+def index(voice):
+    """The index of the room by [38]: G has the wheels of all silences, G * H is x ** size - 1, G * A the voice."""
+    size = len(voice)
+    shared = [1]
+    for divisor in silences(voice):
+        shared = multiplied(shared, wheel(divisor))
+    by = division([-1] + [0] * (size - 1) + [1], shared)[0]
+    many = division(voice, shared)[0]
+    return abs(product_at_roots(many, by))
+
+
+@lru_cache(maxsize=None)
+def primes(number):
+    return [p for p in range(2, number + 1) if number % p == 0 and all(p % k for k in range(2, p))]
+
+
+def polygons(size):
+    return [(p, first) for p in primes(size) for first in range(size // p)]
+
+
+def heap(size, rows):
+    """The voice of a heap."""
+    return tuple(
+        sum(many for p, first, many in rows if (beat - first) % (size // p) == 0) for beat in range(size)
+    )

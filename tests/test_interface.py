@@ -46,6 +46,32 @@ FUNCTIONS = {
         "can_make(one, other)", "bar_of(one, other)", "entries_for(one, other)", "heard(one, entries)",
         "deaf_rows(one)",
     ),
+    "backs": ("is_open(one)", "back_of(one)", "told_back(one, sound)"),
+    "wholes": (
+        "least_multiple(one, other)", "whole_entries(one, other)", "whole_bar(one, other)", "room_index(one)",
+    ),
+    "roompapers": ("made_paper(one, other)", "whole_paper(one, other)"),
+    "roomchecker": ("lets_made(one, other, thing)", "lets_whole(one, other, thing)"),
+    "polygons": (
+        "polygon(size, prime, first)", "polygons_of(size)", "heap_voice(size, rows)", "is_sum(size, thing, voice)",
+    ),
+    "signed": ("signed_heap(voice)",),
+    "heaps": (
+        "heap_of(voice)", "is_heap(voice)", "least_heap(voice)", "heap_count(voice)", "heaps_at(voice, divisor)",
+    ),
+    "bars": ("bar_voice(size)", "stroke_counts(size, most)", "stroke_heaps(size)"),
+    "heappapers": ("heap_paper(voice)",),
+    "heapchecker": ("lets_heap(voice, thing)",),
+    "signs": ("signs_of(pattern)", "holds_first(pattern)", "holds_second(pattern)", "fill_word(pattern)"),
+    "linefills": (
+        "clock_of(pattern)", "line_entries(pattern)", "fills_with(pattern, size, entries)",
+        "clock_entries(size, pattern)",
+    ),
+    "morefills": (
+        "signs_shared(pattern, size, entries)", "lean_fill(pattern, size, entries)", "all_fills(size, pattern)",
+    ),
+    "fillpapers": ("fill_paper(pattern)",),
+    "fillchecker": ("lets_fill(pattern, thing)",),
 }
 
 CLASSES = {
@@ -69,6 +95,21 @@ CLASSES = {
         "__init__(self, size, divisors)", "of(voice)", "__call__(self, weights)", "lacking(self, voice)",
         "lies_in(self, other)", "__contains__", "__len__", "__iter__", "__and__", "__or__", "__eq__", "size_now",
         "divisors_now", "factor_now",
+    ),
+    ("roomclasses", "Room"): (
+        "__init__(self, voice)", "__call__(self, entries)", "back(self, sound)", "makes(self, thing)", "__iter__",
+        "__len__", "__contains__", "__eq__", "voice_now", "silences_now", "index_now",
+    ),
+    ("roomclasses", "Open"): ("__init__(self, voice)", "back_now"),
+    ("heapclasses", "Heap"): (
+        "__init__(self, size, *rows)", "of(voice)", "__call__(self, k)", "traded(self, prime, other, first)",
+        "__getitem__", "__contains__", "__len__", "__iter__", "__eq__", "__add__", "__sub__", "size_now", "rows_now",
+        "voice_now", "is_plain_now", "many_now",
+    ),
+    ("fillclasses", "Fill"): (
+        "__init__(self, pattern, size, entries)", "__call__(self, number)", "shared(self)", "lean(self)",
+        "later(self, number)", "wider(self, many)", "exchanged(self)", "__len__", "__iter__", "__contains__", "__eq__",
+        "pattern_now", "size_now", "entries_now",
     ),
 }
 
@@ -102,6 +143,8 @@ class Interface(unittest.TestCase):
         self.assertIn(name, vars(found))
         if rest:
             self.assertEqual(str(inspect.signature(getattr(found, name))), f"({rest[0]}")
+        if name.endswith("_now"):
+            self.assertIsInstance(vars(found)[name], property)
 
     def test_named_arguments(self):
         """Each function takes its arguments by the names that the document gives them."""

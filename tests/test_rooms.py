@@ -6,22 +6,9 @@ from fractions import Fraction
 
 from silentbeats.errors import Unmade
 from silentbeats.rooms import bar_of, can_make, deaf_rows, entries_for, heard
-from silentbeats.silences import silent_voice
 from silentbeats.voices import product_of, turned
 from tests import reckon
-from tests.base import ALL, PAIR, STEP, THIRDS, BeatTest, a_chance, no_voices_of, some_voice
-
-NO_ENTRIES_OF_TWO = (
-    True, None, 0, 1, "", "12", (), (1,), (1, 2, 3), [1, 2], (1, True), (False, 1), (1, None), (1, "2"), (1, (2, 4)),
-    (1, (1, 0)), (1, (1, -2)), (1, (True, 2)), (1, [1, 2]), (1, (1, 2, 3)), (1, (1,)), (1, ()), ((1, 2),),
-)
-
-
-def some_room(chance, size):
-    """A voice that is silent at some divisors, drawn by chance."""
-    divisors = tuple(d for d in reckon.divisors(size) if chance.random() < 0.4)
-    return reckon.around(silent_voice(size, divisors), some_voice(chance, size))
-
+from tests.base import ALL, NO_ENTRIES_OF_TWO, PAIR, STEP, THIRDS, BeatTest, a_chance, no_voices_of, some_room, some_voice
 
 class RoomTest(BeatTest):
     def test_making(self):
