@@ -47,7 +47,7 @@ def all_fills(size, pattern):
     """How many sets of entries there are by which (size, entries) is a fill."""
     need(is_size(size), "size")
     need(is_pattern(pattern), "pattern")
-    turns = [sorted([(beat + entry) % size for beat in pattern]) for entry in range(size)]
+    turns = [[(beat + entry) % size for beat in pattern] for entry in range(size)]
     return covers(turns, list(range(size)))
 
 

@@ -11,12 +11,9 @@ from silentbeats.voices import voice_of
 
 def has_sign(beats, power, prime):
     """Whether C_power, power being one of the prime, divides the polynomial of this set of numbers."""
-    counts = [0 for _ in range(power)]
-    for beat in beats:
-        counts[beat % power] = counts[beat % power] + 1
-    # What C_power divides is, taken by the power, the same again after each step of power / prime.
-    step = power // prime
-    return counts[step:] + counts[:step] == counts
+    # What C_power divides is, taken by the power, the same again after a step of power / prime.
+    rests = sorted([beat % power for beat in beats])
+    return rests == sorted([(rest + power // prime) % power for rest in rests])
 
 
 def signs_of(pattern):

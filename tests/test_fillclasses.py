@@ -19,8 +19,9 @@ class Derived(Fill):
 def some_fills():
     """Fills of some patterns, all of each on a few clocks."""
     for pattern, sizes in (
-        ((0,), (1, 2, 5)), ((0, 1), (2, 4, 6, 10)), ((0, 3), (2, 6)), (PATTERN, (8, 16)), (SIX, (6, 12)), ((0, 12, 15), (9,)),
-        ((0, 1, 2), (3, 9)), ((0, 4), (8,)), ((0, 33), (2, 10)),
+        ((0,), (1, 2, 5)), ((0, 1), (2, 4, 6, 10)), ((0, 3), (2, 6)), (PATTERN, (8, 16)), (SIX, (6, 12)),
+        ((0, 12, 15), (9,)),
+        ((0, 1, 2), (3, 9)), ((0, 4), (8,)), ((0, 33), (2, 10)), ((0, 5, 7), (3, 9)), ((0, 2, 9, 11), (4, 8)),
     ):
         for size in sizes:
             for entries in searched(size, pattern)[:20]:

@@ -210,6 +210,27 @@ class Judged(BeatTest):
             for _ in range(60):
                 self.check_walk(voice, 0, tuple(chance.choice(pairs) for _ in range(3)))
 
+    def test_voice_that_needs_a_walk_of_three(self):
+        """Slice 1 and slice 2 each bring down one weight of the first slice; two pairs never bar this voice."""
+        first = ((0, 1, 0, 1, 1), (1, 1, 1, 1, 1), (1, 1, 0, 1, 1))
+        rows, columns = {1: (1, 0, 1), 2: (1, 1, 0)}, {1: 0, 2: 1}
+        voice = tuple(
+            first[y % 3][y % 5] + (rows[y % 7][y % 3] - int(columns[y % 7] == y % 5) if y % 7 in rows else 0)
+            for y in range(105)
+        )
+        self.assertTrue(reckon.silent(voice, 105) and min(voice) == 0)
+        self.assertFalse(has_heap(voice, {}))
+        walk = ((0, 0), (1, 1), (2, 2))
+        for k in range(3):
+            self.check_walk(voice, 0, walk[k:] + walk[:k])
+            self.assertTrue(bars_by_hand(voice, 0, walk[k:] + walk[:k]))
+        paper = heap_paper(voice)
+        self.assertEqual((paper[0], len(paper[2])), ("barred", 3))
+        self.tells(False, lets_heap, voice, paper)
+        pairs = list(itertools.product(range(3), range(5)))
+        for two in itertools.product(pairs, repeat=2):
+            self.assertFalse(bars_by_hand(voice, 0, two))
+
     def test_one_pair_alone(self):
         voice = (-1,) + (0,) * 29
         self.tells(False, lets_heap, voice, ("barred", 0, ((0, 0),)))
