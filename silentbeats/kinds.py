@@ -4,6 +4,8 @@ from math import gcd
 
 from silentbeats.primes import MOST_FACTORED, least_prime, prime_parts
 
+MOST_LETTERS = 8
+
 
 def is_integer(thing):
     """Whether it is an int that is not a bool."""
@@ -93,3 +95,10 @@ def is_polynomial(thing):
 def is_monic(thing):
     """Whether it is a polynomial whose last integer is 1."""
     return are_integers(thing) and thing[-1:] == (1,)
+
+
+def is_name(thing):
+    """Whether it is a string of one to eight lowercase letters."""
+    if not isinstance(thing, str) or len(thing) > MOST_LETTERS:
+        return False
+    return thing.isascii() and thing.isalpha() and thing.islower()

@@ -21,6 +21,8 @@ NO_VOICES = (
     True, False, None, 0, 1, "", "1", (), [], [1], [1, 0], (True,), (1, False), (0, None), ("1",), ((1,),), ([1],), (1, ()),
 )
 
+NO_PRIMES = NO_NUMBERS + (0, 1, 4, 6, 8, 9, 15, 25, 49, 91, 169, 10007)
+
 NO_ENTRIES_OF_TWO = (
     True, None, 0, 1, "", "12", (), (1,), (1, 2, 3), [1, 2], (1, True), (False, 1), (1, None), (1, "2"), (1, (2, 4)),
     (1, (1, 0)), (1, (1, -2)), (1, (True, 2)), (1, [1, 2]), (1, (1, 2, 3)), (1, (1,)), (1, ()), ((1, 2),),
@@ -36,6 +38,15 @@ def shown(thing):
     if type(thing).__module__.startswith(("silentbeats.", "tests.")):
         return f"{type(thing).__name__} with {shown(vars(thing))}"
     return repr(thing)
+
+
+def no_states(size, prime):
+    """Values that are no state of a machine of this size and prime."""
+    return (
+        None, True, False, 0, 1, "", "0" * size, (), [], [0] * size, (0,) * (size + 1), (0,) * (size - 1) + (prime,),
+        (-1,) + (0,) * (size - 1), (True,) * size, (False,) * size, (None,) * size, ("0",) * size, ((0,),) * size,
+        (10 ** 59,) + (0,) * (size - 1), ((0,) * size,),
+    )
 
 
 def no_voices_of(size):

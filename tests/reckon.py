@@ -148,3 +148,32 @@ def heap(size, rows):
     return tuple(
         sum(many for p, first, many in rows if (beat - first) % (size // p) == 0) for beat in range(size)
     )
+
+
+def mirror(voice):
+    """The voice with the weight of beat j at beat -j."""
+    return tuple(voice[(len(voice) - beat) % len(voice)] for beat in range(len(voice)))
+
+
+def echo(voice):
+    """The sums of the products of all two weights that are so many beats apart."""
+    return across(voice, voice)
+
+
+def across(one, other):
+    """At beat k the sum of one[i] times other[j] over all beats, k and j more being i."""
+    size = len(one)
+    return tuple(
+        sum(one[i] * other[j] for i in range(size) for j in range(size) if (j + k - i) % size == 0) for k in range(size)
+    )
+
+
+def kin(voice):
+    """All kin of the voice, ascending."""
+    size = len(voice)
+    return sorted({later(each, k) for each in (voice, mirror(voice)) for k in range(size)})
+
+
+def step(voice, prime, state):
+    """The state to which a step of the machine leads."""
+    return tuple(weight % prime for weight in around(voice, state))

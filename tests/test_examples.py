@@ -26,7 +26,7 @@ class Examples(unittest.TestCase):
     def test_all(self):
         names = {}
         examples = read_examples()
-        self.assertEqual(len(examples), 116)
+        self.assertEqual(len(examples), 171)
         for number, source, told in examples:
             with self.subTest(line=number, source=source):
                 self.run_one(source, told, names)

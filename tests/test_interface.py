@@ -72,6 +72,34 @@ FUNCTIONS = {
     ),
     "fillpapers": ("fill_paper(pattern)",),
     "fillchecker": ("lets_fill(pattern, thing)",),
+    "echoes": (
+        "echo_of(voice)", "crossed(one, other)", "same_echo(one, other)", "mixed_pair(one, other)",
+        "intervals_of(voice)", "the_others(voice)",
+    ),
+    "kin": ("least_kin(voice)", "kin_count(voice)", "kin_step(one, other)"),
+    "twins": (
+        "strokes_with(echo)", "twins_of(voice)", "kin_classes(size, many)", "flat_pair(voice)",
+        "flat_strokes(size, many)",
+    ),
+    "kinpapers": ("kin_paper(one, other)",),
+    "kinchecker": ("lets_kin(one, other, thing)",),
+    "machines": (
+        "is_state(size, prime, thing)", "step_of(voice, prime, state)", "after(voice, prime, state, many)",
+        "common_factor(voice, prime)", "dying_rank(voice, prime)", "goes_back(voice, prime)",
+        "back_voice(voice, prime)", "before(voice, prime, state)", "before_count(voice, prime, state)",
+        "garden(voice, prime)",
+    ),
+    "factors": ("factors_of(size, prime)", "state_parts(size, prime, state)", "state_from(size, prime, parts)"),
+    "rounds": (
+        "tail_of(voice, prime)", "round_of(voice, prime)", "state_tail(voice, prime, state)",
+        "state_round(voice, prime, state)", "rounds_of(voice, prime)",
+    ),
+    "machinepapers": ("back_paper(voice, prime)",),
+    "machinechecker": ("lets_back(voice, prime, thing)",),
+    "liveevents": ("is_event(thing)",),
+    "replaying": ("is_log(thing)", "replayed(log)"),
+    "eventtexts": ("event_line(event)", "log_lines(log)"),
+    "eventreadings": ("read_event(text)", "read_log(lines)"),
 }
 
 CLASSES = {
@@ -111,6 +139,25 @@ CLASSES = {
         "later(self, number)", "wider(self, many)", "exchanged(self)", "__len__", "__iter__", "__contains__", "__eq__",
         "pattern_now", "size_now", "entries_now",
     ),
+    ("echoclasses", "Echo"): (
+        "__init__(self, voice)", "__getitem__", "__len__", "__iter__", "__contains__", "__eq__", "__mul__",
+        "__invert__", "kin_with(self, other)", "voice_now", "echo_now",
+    ),
+    ("machineclasses", "Machine"): (
+        "__init__(self, voice, prime)", "__call__(self, state)", "after(self, state, many)",
+        "walk(self, state, many)", "rounds(self)", "__contains__", "__len__", "__eq__", "__mul__", "back(self)",
+        "voice_now", "prime_now", "digits_now", "is_back",
+    ),
+    ("live", "LiveScore"): (
+        "__init__(self, size)", "MOST", "go(self, event)", "enter(self, name, voice)", "leave(self, name)",
+        "turn(self, name, k)", "stretch(self, name, k)", "play(self, name, other)", "is_even(self)",
+        "through(self, room, name)", "back_through(self, room, name)", "makers(self, name)", "fillers(self, name)",
+        "table(self)", "barred(self, event)", "tried(self, *events)", "undo(self)",
+        "do_all(self, *events, keep=False)", "tally(self)", "note(self, name)", "since(self, name)", "notes(self)",
+        "log(self)", "__getitem__", "__contains__", "__len__", "__iter__", "__str__", "__eq__", "size_now",
+        "voices_now", "sum_now", "product_now", "silences_now", "lacking_now",
+    ),
+    ("desk", "Desk"): ("__init__(self)", "say(self, row)", "counts(self)"),
 }
 
 
@@ -143,7 +190,7 @@ class Interface(unittest.TestCase):
         self.assertIn(name, vars(found))
         if rest:
             self.assertEqual(str(inspect.signature(getattr(found, name))), f"({rest[0]}")
-        if name.endswith("_now"):
+        if name.endswith("_now") or name == "is_back":
             self.assertIsInstance(vars(found)[name], property)
 
     def test_named_arguments(self):

@@ -37,6 +37,7 @@ NODES = (
     ast.keyword, ast.Attribute, ast.Subscript, ast.Slice, ast.BinOp, ast.UnaryOp, ast.BoolOp, ast.Compare, ast.IfExp, ast.JoinedStr,
     ast.FormattedValue, ast.Starred, ast.expr_context, ast.operator, ast.unaryop, ast.boolop, ast.cmpop,
 )
+CHANGING = {"LiveScore": ["happen", "go", "undo", "do_all", "note"], "Desk": ["say"]}
 BARRED_NODES = (ast.Div, ast.Pow, ast.MatMult)
 
 
@@ -105,7 +106,20 @@ class Language(unittest.TestCase):
             for node in tree.body[1:]:
                 self.assertIsInstance(node, (ast.ImportFrom, ast.FunctionDef, ast.ClassDef, ast.Assign), name)
                 if isinstance(node, ast.Assign):
-                    self.assertIsInstance(node.value, ast.Constant, name)
+                    self.check_value(node, [each.name for each in tree.body if each.lineno < node.lineno
+                                            and isinstance(each, ast.FunctionDef)])
+
+    def check_value(self, node, above):
+        """Whether a plain value is assigned, or a table of tuples, or of functions above it."""
+        if isinstance(node.value, ast.Dict):
+            for key, value in zip(node.value.keys, node.value.values):
+                self.assertIsInstance(key, ast.Constant)
+                if isinstance(value, ast.Name):
+                    self.assertIn(value.id, above)
+                else:
+                    self.assertIsInstance(ast.literal_eval(value), tuple)
+        else:
+            self.assertIsInstance(node.value, ast.Constant)
 
     def test_imports(self):
         defined = {name: [node.name for node in tree.body if isinstance(node, (ast.FunctionDef, ast.ClassDef))]
@@ -170,13 +184,16 @@ class Language(unittest.TestCase):
             known += [node.name for node in tree.body if isinstance(node, (ast.FunctionDef, ast.ClassDef))]
             known += [node.targets[0].id for node in tree.body if isinstance(node, ast.Assign)]
             known += [alias.name for node in walked(tree, ast.ImportFrom) for alias in node.names]
+            known += [node.targets[0].id for body in walked(tree, ast.ClassDef) for node in body.body
+                      if isinstance(node, ast.Assign)]
             for node in walked(tree, ast.Name):
                 self.assertIn(node.id, known, f"{name}:{node.lineno}")
             for node in walked(tree, ast.Call):
                 if isinstance(node.func, ast.Attribute):
                     self.assertIn(node.func.attr, METHODS + own, f"{name}:{node.lineno}")
                 if isinstance(node.func, ast.Name) and node.func.id in BUILTINS:
-                    self.assertEqual(node.keywords, [], f"{name}:{node.lineno}")
+                    taken = ["default"] if node.func.id in ("max", "min") and len(node.args) == 1 else []
+                    self.assertTrue(all(each.arg in taken for each in node.keywords), f"{name}:{node.lineno}")
 
     def test_stars_stand_before_names(self):
         for where, node in self.each(ast.Starred):
@@ -217,11 +234,37 @@ class Language(unittest.TestCase):
             self.assertIsInstance(node.target, ast.Name, where)
             self.assertIsInstance(node.value, ast.Constant, where)
 
-    def test_attributes_are_set_in_init_alone(self):
-        for where, function in self.each(ast.FunctionDef):
-            for node in walked(function, ast.Attribute):
-                if isinstance(node.ctx, ast.Store):
-                    self.assertEqual(function.name, "__init__", where)
+    def test_attributes_are_set_in_init_or_by_what_changes(self):
+        for name, tree in self.trees.items():
+            for body in walked(tree, ast.ClassDef):
+                may = ["__init__"] + CHANGING.get(body.name, [])
+                for function in walked(body, ast.FunctionDef):
+                    if function.name not in may:
+                        self.assertEqual(self.set_by(function), [], f"{name}:{function.lineno}")
+            for function in [node for node in tree.body if isinstance(node, ast.FunctionDef)]:
+                self.assertEqual(self.set_by(function), [], f"{name}:{function.lineno}")
+
+    def set_by(self, function):
+        """The attributes that a function sets."""
+        return [node.attr for node in walked(function, ast.Attribute) if isinstance(node.ctx, ast.Store)]
+
+    def test_operators_and_properties_change_nothing(self):
+        """What they call, and what this calls, by its names: none of it sets an attribute."""
+        functions = {}
+        for _, node in self.each(ast.FunctionDef):
+            functions.setdefault(node.name, []).append(node)
+        todo = [node.name for _, node in self.each(ast.FunctionDef)
+                if node.name.startswith("__") and node.name not in ("__init__", "__call__")
+                or [each for each in node.decorator_list if each.id == "property"]]
+        done = []
+        while todo:
+            name = todo.pop()
+            done.append(name)
+            for function in functions[name]:
+                self.assertEqual(self.set_by(function), [], name)
+                named = [node.id for node in walked(function, ast.Name)]
+                named += [node.attr for node in walked(function, ast.Attribute)]
+                todo += [each for each in set(named) if each in functions and each not in done + todo]
 
     def test_items_are_set_in_own_lists_alone(self):
         """What an operator runs changes no list but one that the function itself makes."""
@@ -236,8 +279,8 @@ class Language(unittest.TestCase):
                     self.assertIn(node.func.value.id, made, where)
 
     def makes_list(self, node):
-        called = isinstance(node, ast.Call) and isinstance(node.func, ast.Name) and node.func.id in ("list", "sorted")
-        return called or isinstance(node, (ast.List, ast.ListComp))
+        called = isinstance(node, ast.Call) and isinstance(node.func, ast.Name) and node.func.id in ("list", "dict", "sorted")
+        return called or isinstance(node, (ast.List, ast.ListComp, ast.Dict))
 
     def test_double_underscore_methods(self):
         for where, node in self.each(ast.FunctionDef):
