@@ -51,6 +51,15 @@ class Kin(BeatTest):
                 self.tells(first_step(voice, kin), kin_step, voice, kin)
             self.tells(None, kin_step, voice, tuple(weight + 1 for weight in voice))
 
+    def test_turned_by_any_integer(self):
+        for voice in some_voices(672):
+            size = len(voice)
+            for k in (-1, -size, -size - 3, size + 2, 10 ** 18, -(10 ** 18) - 1):
+                for each in (voice, reckon.mirror(voice)):
+                    kin = reckon.later(each, k)
+                    self.same(least_kin(kin), least_kin(voice))
+                    self.tells(first_step(voice, kin), kin_step, voice, kin)
+
     def test_all_pairs_of_small_voices(self):
         for size in (1, 2, 3, 4):
             voices = list(itertools.product((0, 1, 2), repeat=size))
